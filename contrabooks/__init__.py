@@ -1,0 +1,1 @@
+"""Books in which nothing is erased."""
