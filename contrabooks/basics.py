@@ -1,9 +1,14 @@
 """What the modules share about integers and their texts."""
 
 
+def is_integer(value):
+    """Whether any value is an integer: an int that is no bool."""
+    return isinstance(value, int) and not isinstance(value, bool)
+
+
 def is_number(value):
     """Whether any value is a number: an integer from 0 on."""
-    return isinstance(value, int) and not isinstance(value, bool) and value >= 0
+    return is_integer(value) and value >= 0
 
 
 def is_amount(value):

@@ -5,15 +5,22 @@ import inspect
 import unittest
 
 import contrabooks
-from contrabooks.basics import is_amount, is_number, read_number
+from contrabooks.basics import is_amount, is_integer, is_number, read_number
 from contrabooks.books import play
-from contrabooks.errors import BookError, InvalidHouse, InvalidMove, InvalidRow
+from contrabooks.errors import BookError, InvalidHouse, InvalidMove, InvalidReport, InvalidRow
 from contrabooks.houses import House, Let
 from contrabooks.moves import Begin, History, Right, Shut, Take
+from contrabooks.reports import Count, Report
 from tests.values import HOUSE_TEXT, any_values, full_house
 
 # Functions and classes of the interface: their parameters, and the methods that stand in the class itself.
-FUNCTIONS = {"books": {"play": "house history"}}
+FUNCTIONS = {
+    "books": {"play": "house history"},
+    "deciding": {"met": "house history report=None", "happens": "house goal report=None",
+                 "least": "house goal report=None", "goals": "house report=None"},
+    "papers": {"paper": "house goal report=None", "paper_holds": "house goal value report=None"},
+    "comparing": {"alike": "house r s", "parting": "house r s", "needed": "house report", "same": "p q", "apart": "p q"},
+}
 CLASSES = {
     "moves": {
         "Begin": ("amount", {"__eq__": "other", "__str__": ""}),
@@ -33,6 +40,14 @@ CLASSES = {
         "Entry": (None, {"__eq__": "other"}),
         "Book": (None, {"left_of": "at", "depth_of": "at", "kind_of": "at", "top_of": "at", "deed_of": "at",
                         "__len__": "", "__getitem__": "at", "__eq__": "other"}),
+    },
+    "reports": {
+        "Count": ("kind weight whose", {"__eq__": "other", "__str__": ""}),
+        "Report": ("rows=()", {"weight_of": "kind", "month_of": "kind", "read": "text", "__call__": "book",
+                               "__invert__": "", "__eq__": "other", "__str__": ""}),
+        "Figures": ("pairs=()", {
+            "months": None, "total": None, "__getitem__": "at", "__add__": "other", "__sub__": "other", "__neg__": "",
+            "__mul__": "other", "__rmul__": "other", "__bool__": "", "__eq__": "other", "__str__": ""}),
     },
 }
 
@@ -59,6 +74,9 @@ class Interface(unittest.TestCase):
                     self.assertEqual(parameters(getattr(module, word)), expected, word)
                 for method, told in methods.items():
                     self.assertIn(method, vars(getattr(module, word)), word)
+                    if told is None:
+                        self.assertIsInstance(vars(getattr(module, word))[method], property)
+                        continue
                     found = parameters(getattr(getattr(module, word), method))
                     self.assertEqual(found.replace("self", "").strip(), told, (word, method))
 
@@ -72,6 +90,7 @@ class Basics(unittest.TestCase):
     def test_numbers_and_amounts(self):
         for value in any_values():
             whole = isinstance(value, int) and value is not True and value is not False
+            self.assertIs(is_integer(value), whole)
             self.assertIs(is_number(value), whole and value >= 0)
             self.assertIs(is_amount(value), whole and value >= 1)
 
@@ -88,7 +107,8 @@ class Basics(unittest.TestCase):
             (InvalidMove, lambda value: Take(value, value)), (InvalidMove, lambda value: Right(value, value)),
             (InvalidMove, lambda value: History(value)), (InvalidRow, lambda value: Let(value, value, value, value)),
             (InvalidHouse, lambda value: House(value, value, value)), (InvalidHouse, lambda value: House(1, value)),
-            (InvalidHouse, lambda value: House(1, "all", value)),
+            (InvalidHouse, lambda value: House(1, "all", value)), (InvalidReport, lambda value: Report(value)),
+            (InvalidRow, lambda value: Count(value, value, value)), (InvalidRow, lambda value: Count("new", value, "own")),
         )
         for value in any_values():
             for error, make in makers:

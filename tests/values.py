@@ -3,6 +3,7 @@
 from contrabooks.books import play
 from contrabooks.houses import House, Let
 from contrabooks.moves import Begin, History, Right, Shut, Take
+from contrabooks.reports import Count, Figures, Report
 
 HOUSE_TEXT = (
     "depth 3\ncheck left\nfirst open part now\nfirst shut whole now\nminus open whole now\nplus open part now"
@@ -29,7 +30,8 @@ def any_values():
         Begin(5), Take(0), Take(0, 2), Right(0, 7), Shut(), History(), History([Shut()]),
         Let("first", "open", "part", "now"), house, House(0, "all"), book, book[0],
         [], (), [0], (1,), [None], ["first"], ("open",), [True, False], [Begin(5), 1], (Shut(),),
-        [Let("first", "open", "part", "now"), None], [History()], deep(1, 8), deep(None, 8), deep(Begin(5), 8),
+        Count("plus", -1, "deed"), Report([Count("plus", -1, "deed")]), Figures([(3, 7)]),
+        [Let("first", "open", "part", "now"), None], [Count("plus", -1, "deed"), None], [History()], deep(1, 8), deep(None, 8), deep(Begin(5), 8),
     ]
 
 
