@@ -72,12 +72,6 @@ def steps_apart(p, q):
     # Only a path that is hit shows the check: one house lets the last entry be taken back then, the other does not.
     hits = p.check != q.check
     return search(
-        lambda standing: steps_of_either(p, q, standing, hits),
+        lambda standing: steps(p, standing, hits) + steps(q, standing, hits),
         lambda standing, step: not (step in steps(p, standing, hits) and step in steps(q, standing, hits)),
     )[1]
-
-
-def steps_of_either(p, q, standing, hits):
-    """The list of the steps that one house or both let from a standing."""
-    found = steps(p, standing, hits)
-    return [*found, *[step for step in steps(q, standing, hits) if step not in found]]

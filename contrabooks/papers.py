@@ -46,7 +46,7 @@ def is_standing(value):
     if not (isinstance(value, tuple) and len(value) == 6):
         return False
     deed, months, is_new, is_righted, is_hit, now = value
-    if not (isinstance(months, tuple) and 1 <= len(months) <= MOST_MONTHS):
+    if not (isinstance(months, tuple) and len(months) <= MOST_MONTHS):
         return False
     if not all([isinstance(item, bool) for item in (is_new, is_righted, is_hit)]):
         return False

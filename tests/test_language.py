@@ -54,6 +54,13 @@ def nodes(*kinds):
                 yield f"{name}:{getattr(node, 'lineno', 0)}", node
 
 
+def bound_by(node):
+    """The names that a comprehension or a lambda assigns."""
+    if isinstance(node, ast.Lambda):
+        return {arg.arg for arg in node.args.args}
+    return {part.id for told in node.generators for part in ast.walk(told.target) if isinstance(part, ast.Name)}
+
+
 class Form(unittest.TestCase):
     def test_files(self):
         for path in FOLDER.rglob("*"):
@@ -147,6 +154,60 @@ class Form(unittest.TestCase):
         for where, node in nodes(ast.Attribute):
             known = node.attr in methods or node.attr in attributes or node.attr in METHODS or node.attr == "__init__"
             self.assertTrue(known, (where, node.attr))
+
+    def test_local_names(self):
+        for name, _, tree in trees():
+            barred = {node.name for node in tree.body if isinstance(node, ast.ClassDef)}
+            for node in tree.body:
+                if isinstance(node, ast.ImportFrom):
+                    barred.update(alias.name for alias in node.names)
+            for node in ast.walk(tree):
+                if isinstance(node, ast.arg):
+                    self.assertNotIn(node.arg, barred, name)
+                if isinstance(node, ast.Name) and isinstance(node.ctx, ast.Store):
+                    self.assertNotIn(node.id, barred, name)
+
+    def test_names_in_comprehensions(self):
+        # Narrower than the rule: a comprehension inside another one, or inside a lambda, has names of its own.
+        kinds = (ast.ListComp, ast.DictComp, ast.SetComp, ast.Lambda)
+        for where, outer in nodes(*kinds):
+            for inner in ast.walk(outer):
+                if inner is not outer and isinstance(inner, kinds):
+                    self.assertEqual(bound_by(inner) & bound_by(outer), set(), where)
+
+    def test_what_operators_would_make_hard_to_follow(self):
+        ordered = {"sorted": ("int", "len", "str", "set"), "min": ("int", "len"), "max": ("int", "len")}
+        for where, node in nodes(ast.AugAssign, ast.GeneratorExp, ast.NamedExpr, ast.Global, ast.Nonlocal):
+            self.fail(where)
+        for where, node in nodes(ast.Call):
+            if isinstance(node.func, ast.Name) and node.func.id in ordered:
+                found = node.args[0].elt if isinstance(node.args[0], ast.ListComp) else node.args[0]
+                self.assertIsInstance(found, ast.Call, where)
+                self.assertIn(found.func.id, ordered[node.func.id], where)
+            if isinstance(node.func, ast.Attribute):
+                self.assertNotIn(node.func.attr, ("sort", "pop", "remove", "update", "setdefault", "clear"), where)
+        for where, node in nodes(ast.Set):
+            self.fail(where)
+        for where, node in nodes(ast.SetComp):
+            self.assertIsInstance(node.elt, (ast.Name, ast.Attribute), where)
+
+    def test_lambdas(self):
+        lines = [where for where, node in nodes(ast.Lambda)]
+        self.assertEqual(len(lines), len(set(lines)))
+        for where, node in nodes(ast.Lambda):
+            self.assertEqual((node.args.defaults, node.args.kwonlyargs, node.args.vararg), ([], [], None), where)
+
+    def test_properties(self):
+        properties, stored = set(), set()
+        for where, node in nodes(ast.FunctionDef, ast.Attribute):
+            if isinstance(node, ast.FunctionDef) and any(ast.unparse(told) == "property" for told in node.decorator_list):
+                properties.add(node.name)
+                self.assertEqual(len(node.decorator_list), 1, where)
+                for part in ast.walk(node):
+                    self.assertNotIsInstance(part, (ast.Assign, ast.Delete), where)
+            elif isinstance(node, ast.Attribute) and isinstance(node.ctx, ast.Store):
+                stored.add(node.attr)
+        self.assertEqual(properties & stored, set())
 
     def test_double_underscore_methods_change_nothing(self):
         for where, function in nodes(ast.FunctionDef):

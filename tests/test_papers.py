@@ -296,6 +296,8 @@ class Holding(unittest.TestCase):
             # The open month is later than all others in one of the two, where the step from the other one leads.
             later = Rules(NOTHING, "over", {}).order(deed, (first, second), False, False, False, max(told) + 1)
             self.assertIs(self.holds(found, later), right and min(told) == 0, found)
+        # As many numbers as there should be, and a step leads to the beginning.
+        self.assertIs(self.holds((2, (2,), False, False, False, 1)), False)
         for huge in (10 ** 9, 10 ** 30, -(10 ** 30)):
             self.assertIs(self.holds((0, (0,), False, False, False, huge)), False)
             self.assertIs(self.holds((huge, (0,), False, False, False, 0)), False)
