@@ -98,14 +98,26 @@ def lefts_of(entries):
     return tuple(lefts)
 
 
+def signed_amount(book, at):
+    """The amount of an entry of a book, with its sign."""
+    amount = book[at].amount
+    return -amount if book.kind_of(at) == "minus" else amount
+
+
 def play(house, history):
     """The book behind a history."""
-    book = Book((), 0)
+    return books_along(house, history)[-1]
+
+
+def books_along(house, history):
+    """The list of the book ahead of all moves of a history, and of those behind each of them."""
+    books = [Book((), 0)]
     for at, move in enumerate(history.moves):
-        book = after(house, book, move)
+        book = after(house, books[-1], move)
         if book is None:
             raise Refused(at)
-    return book
+        books.append(book)
+    return books
 
 
 def after(house, book, move):

@@ -1,7 +1,7 @@
 """Goals, which should not happen: whether a history comes to them, whether any does, and a shortest one that does."""
 
-from contrabooks.books import Book, after
-from contrabooks.errors import InvalidGoal, Refused
+from contrabooks.books import books_along
+from contrabooks.errors import InvalidGoal
 from contrabooks.paths import history_of, search, steps
 from contrabooks.reports import month_counted
 
@@ -11,14 +11,10 @@ REPORT_GOALS = ("changed", "wrong")
 
 def met(house, history, report=None):
     """The ascending tuple of the goals to which a history comes."""
-    book = Book((), 0)
+    books = books_along(house, history)
     found = []
-    for at, move in enumerate(history.moves):
-        later = after(house, book, move)
-        if later is None:
-            raise Refused(at)
+    for book, later in zip(books, books[1:]):
         found.extend(met_by(book, later, report))
-        book = later
     return tuple([goal for goal in GOALS if goal in found])
 
 

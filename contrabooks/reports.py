@@ -1,6 +1,7 @@
 """Reports: which entries count, and in whose month; and the figures that come of them."""
 
 from contrabooks.basics import is_integer
+from contrabooks.books import signed_amount
 from contrabooks.errors import InvalidReport, InvalidRow, InvalidText
 from contrabooks.houses import KINDS
 
@@ -179,8 +180,7 @@ def month_counted(report, kind, months):
 def pair_of(report, book, at):
     """The month in which an entry of a book counts, and what it counts there."""
     kind = book.kind_of(at)
-    amount = -book[at].amount if kind == "minus" else book[at].amount
-    return month_counted(report, kind, months_of(book, at)), report.weight_of(kind) * amount
+    return month_counted(report, kind, months_of(book, at)), report.weight_of(kind) * signed_amount(book, at)
 
 
 def months_of(book, at):

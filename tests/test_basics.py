@@ -20,6 +20,8 @@ FUNCTIONS = {
                  "least": "house goal report=None", "goals": "house report=None"},
     "papers": {"paper": "house goal report=None", "paper_holds": "house goal value report=None"},
     "comparing": {"alike": "house r s", "parting": "house r s", "needed": "house report", "same": "p q", "apart": "p q"},
+    "repairs": {"repairs": "house goal report=None"},
+    "telling": {"printed": "house history", "ways": "house lines"},
 }
 CLASSES = {
     "moves": {
@@ -48,6 +50,14 @@ CLASSES = {
         "Figures": ("pairs=()", {
             "months": None, "total": None, "__getitem__": "at", "__add__": "other", "__sub__": "other", "__neg__": "",
             "__mul__": "other", "__rmul__": "other", "__bool__": "", "__eq__": "other", "__str__": ""}),
+    },
+    "ledger": {
+        "Ledger": ("house", {
+            "house": None, "history": None, "book": None, "do": "move", "undo": "", "trial": "", "within": "work",
+            "several": "moves", "__len__": "", "__getitem__": "at", "__iadd__": "other"}),
+    },
+    "desk": {
+        "Desk": ("", {"say": "command"}),
     },
 }
 

@@ -38,6 +38,23 @@ EXAMPLES = r"""
     (False, 3, (), ('minus', 'plus'))
     >>> len(apart(house, back)), apart(house, House.read(text + "\nfirst open part there"))
     (3, None)
+
+    >>> from contrabooks.repairs import repairs
+    >>> repairs(house, "over"), repairs(back, "moved")
+    (((2,), (3,), (0, 1)), ((1,),))
+
+    >>> from contrabooks.telling import printed, ways
+    >>> printed(house, History.read("begin 2; shut; begin 2; take 1 by 2"))
+    ((0, 0, 2), (1, 1, 2), (1, 1, -2))
+    >>> ways(house, [(0, 0, 2), (1, 1, 2), (1, 1, -2)])
+    (((-1, -1), (-1, -1), (0, -1)), ((-1, -1), (-1, -1), (1, -1)))
+
+    >>> from contrabooks.desk import Desk
+    >>> desk = Desk()
+    >>> desk.say("house depth 1 ; check left ; first shut part there"), desk.say("report first 1 own ; minus 1 target")
+    ('1', '2')
+    >>> [desk.say(word) for word in ("do begin 7", "do shut", "do take 0 by 3", "figures", "left 0", "goals")]
+    ['0', '-', '1', '0: 4', '4', 'changed moved']
 """
 
 
@@ -45,7 +62,7 @@ class Examples(unittest.TestCase):
     def test_examples(self):
         examples = doctest.DocTestParser().get_doctest(EXAMPLES, {}, "DOC.md", None, None)
         results = doctest.DocTestRunner(verbose=False).run(examples)
-        self.assertEqual((results.attempted, results.failed), (22, 0))
+        self.assertEqual((results.attempted, results.failed), (31, 0))
 
 
 if __name__ == "__main__":

@@ -209,6 +209,29 @@ class Form(unittest.TestCase):
                 stored.add(node.attr)
         self.assertEqual(properties & stored, set())
 
+    def test_leaving_a_block_only_puts_something_back(self):
+        for where, function in nodes(ast.FunctionDef):
+            if function.name == "__exit__":
+                self.assertEqual([arg.arg for arg in function.args.args], ["self", "kind", "value", "trace"], where)
+                for node in function.body:
+                    self.assertIsInstance(node, ast.Assign, where)
+                    self.assertIsInstance(node.targets[0], ast.Attribute, where)
+                    self.assertIsInstance(node.value, (ast.Attribute, ast.Name), where)
+        for where, node in nodes(ast.With):
+            for item in node.items:
+                self.assertIsInstance(item.context_expr, ast.Call, where)
+
+    def test_tables_are_only_read(self):
+        for name, _, tree in trees():
+            tables = {node.targets[0].id for node in tree.body if isinstance(node, ast.Assign)
+                      and isinstance(node.value, (ast.Dict, ast.List))}
+            reads = [part for node in ast.walk(tree) for part in (
+                [node.value] if isinstance(node, ast.Subscript) and isinstance(node.ctx, ast.Load) else
+                node.comparators if isinstance(node, ast.Compare) else ())]
+            for node in ast.walk(tree):
+                if isinstance(node, ast.Name) and node.id in tables and isinstance(node.ctx, ast.Load):
+                    self.assertIn(node, reads, (name, node.id))
+
     def test_double_underscore_methods_change_nothing(self):
         for where, function in nodes(ast.FunctionDef):
             if function.name in ("__eq__", "__repr__", "__str__", "__len__", "__bool__"):

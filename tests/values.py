@@ -1,7 +1,9 @@
 """Values for tests: some of any kind, and houses that several tests use."""
 
 from contrabooks.books import play
+from contrabooks.desk import Desk
 from contrabooks.houses import House, Let
+from contrabooks.ledger import Ledger
 from contrabooks.moves import Begin, History, Right, Shut, Take
 from contrabooks.reports import Count, Figures, Report
 
@@ -24,6 +26,9 @@ def any_values():
     """Values of every kind that may be passed as any value."""
     house = House.read(HOUSE_TEXT)
     book = play(house, History.read("begin 5; take 0 by 2"))
+    ledger, desk = Ledger(house), Desk()
+    ledger.do(Begin(5))
+    desk.say("do begin 5")
     return [
         0, 1, 2, 5, -1, -7, 10 ** 12, -(10 ** 30), 10 ** 30, True, False, None,
         "", " ", "0", "1", "at", "first", "open", "whole", "now", "left", "all", "begin 5", "shut", "depth 3",
@@ -32,6 +37,7 @@ def any_values():
         [], (), [0], (1,), [None], ["first"], ("open",), [True, False], [Begin(5), 1], (Shut(),),
         Count("plus", -1, "deed"), Report([Count("plus", -1, "deed")]), Figures([(3, 7)]),
         [Let("first", "open", "part", "now"), None], [Count("plus", -1, "deed"), None], [History()], deep(1, 8), deep(None, 8), deep(Begin(5), 8),
+        ledger, desk, ledger.trial(), [ledger], (desk,), (Begin(5), ledger), deep(ledger, 8), "undo", "goals", "least over",
     ]
 
 
